@@ -1,1 +1,1 @@
-"""Herds of spots in a plane: their corners, land, spots and farthest places."""
+"""Herds of spots in a plane, a line between two or a spot that both share, and what shows which."""

@@ -1,6 +1,7 @@
-"""What counts as a herd and as a way, and the refusal of all else."""
+"""What counts as a herd, a spot, a way or a fraction, and the refusal of all else."""
 
-from herdline.errors import BadHerd, BadWay
+from herdline.errors import BadHerd, BadSpot, BadWay
+from herdline.fractions import common_divisor
 
 BOUND = 1000
 MOST_SPOTS = 8
@@ -24,9 +25,20 @@ def is_herd(value):
     return all([is_pair(spot) for spot in value])
 
 
+def is_fraction(value):
+    if not isinstance(value, tuple) or len(value) != 2 or not all([is_number(part) for part in value]):
+        return False
+    return value[1] > 0 and common_divisor(value[0], value[1]) == 1
+
+
 def check_herd(herd):
     if not is_herd(herd):
         raise BadHerd("a herd is a list of 1 to 8 spots, pairs of whole numbers from -1000 to 1000")
+
+
+def check_spot(spot):
+    if not is_pair(spot):
+        raise BadSpot("a spot is a pair of whole numbers from -1000 to 1000")
 
 
 def check_way(way):

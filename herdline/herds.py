@@ -11,6 +11,10 @@ def leftness(start, end, spot):
     return along - across
 
 
+def reach(way, spot):
+    return way[0] * spot[0] + way[1] * spot[1]
+
+
 def left_chain(row):
     chain = []
     for spot in row:
@@ -62,6 +66,6 @@ def spots(herd):
 def farthest(herd, way):
     check_herd(herd)
     check_way(way)
-    reaches = [way[0] * spot[0] + way[1] * spot[1] for spot in herd]
+    reaches = [reach(way, spot) for spot in herd]
     greatest = max(reaches)
-    return [place for place, reach in enumerate(reaches) if reach == greatest]
+    return [place for place, far in enumerate(reaches) if far == greatest]

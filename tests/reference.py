@@ -1,6 +1,7 @@
 """Herds by the words of the document alone, slow and plain, to hold the program against."""
 
 import itertools
+import math
 import random
 from fractions import Fraction
 
@@ -58,6 +59,61 @@ def whole_spots(herd):
     wide = range(min(x for x, y in herd), max(x for x, y in herd) + 1)
     high = range(min(y for x, y in herd), max(y for x, y in herd) + 1)
     return [point for point in itertools.product(wide, high) if holds(herd, point)]
+
+
+def is_mixture(parts, herd):
+    """Whether the parts are a mixture of the herd, as point 2 tells."""
+    if type(parts) is not list or not 1 <= len(parts) <= 3:
+        return False
+    for place, weight in parts:
+        if type(place) is not int or type(weight) is not tuple or len(weight) != 2:
+            return False
+        a, b = weight
+        if a <= 0 or b <= 0 or math.gcd(a, b) != 1 or place not in range(len(herd)):
+            return False
+    places = [place for place, weight in parts]
+    return places == sorted(set(places)) and sum(Fraction(*weight) for place, weight in parts) == 1
+
+
+def point_of(parts, herd):
+    """The point that a mixture of the herd is."""
+    across = sum(Fraction(*weight) * herd[place][0] for place, weight in parts)
+    up = sum(Fraction(*weight) * herd[place][1] for place, weight in parts)
+    return (across, up)
+
+
+def sides_of(fence, herd):
+    """For each spot -1 if it is beneath the fence, 0 if on it, 1 if beyond."""
+    a, b, c = fence
+    heights = [a * x + b * y - c for x, y in herd]
+    return [(height > 0) - (height < 0) for height in heights]
+
+
+def is_fence(fence):
+    """Whether it is a triple of whole numbers, the first two not both 0."""
+    return type(fence) is tuple and [type(part) for part in fence] == [int] * 3 and fence[:2] != (0, 0)
+
+
+def is_mixed(parts, herd, spot):
+    """Whether point 3 tells so of a mixture, this herd and this spot."""
+    return is_mixture(parts, herd) and point_of(parts, herd) == spot
+
+
+def is_apart(fence, herd, spot):
+    """Whether point 3 tells so of a fence, this herd and this spot."""
+    return is_fence(fence) and 1 not in sides_of(fence, herd) and sides_of(fence, [spot]) == [1]
+
+
+def is_parted(fence, one, other):
+    """Whether point 7 tells so of a fence and these herds."""
+    return is_fence(fence) and set(sides_of(fence, one)) == {-1} and set(sides_of(fence, other)) == {1}
+
+
+def is_meeting(first, second, one, other):
+    """Whether point 7 tells so of two mixtures and these herds."""
+    if not is_mixture(first, one) or not is_mixture(second, other):
+        return False
+    return point_of(first, one) == point_of(second, other)
 
 
 def small_herds():

@@ -29,6 +29,13 @@ WORDS = set("""
     NamedTuple TypedDict TYPE_CHECKING abstractmethod
 """.split())
 
+# Those of Python's own methods that may be called.
+CALLED = set("""
+    append clear copy count endswith extend find get index insert isalnum isalpha isdigit islower isspace isupper
+    items join keys ljust lower lstrip partition pop remove replace reverse rfind rjust rpartition rsplit rstrip
+    setdefault split splitlines startswith strip update upper values zfill bit_length
+""".split())
+
 
 def sources():
     """Each file of the package with its text and its tree."""
@@ -91,6 +98,35 @@ class Language(unittest.TestCase):
                 self.assertFalse(hasattr(builtins, bound), f"{name}: {bound}")
             read = {node.id for node in ast.walk(tree) if isinstance(node, ast.Name)}
             self.assertEqual({one for one in read if hasattr(builtins, one)} - BUILT_IN, set(), name)
+
+    def test_no_name_stands_for_two_things(self):
+        for name, text, tree in sources():
+            tops = [node.name for node in tree.body if isinstance(node, (ast.FunctionDef, ast.ClassDef))]
+            tops += [one.name for node in tree.body if isinstance(node, ast.ImportFrom) for one in node.names]
+            tops += [target.id for node in tree.body if isinstance(node, ast.Assign) for target in node.targets]
+            self.assertEqual(len(tops), len(set(tops)), name)
+            for node in ast.walk(tree):
+                if isinstance(node, ast.FunctionDef):
+                    within = set(bound_names(node)) - {node.name}
+                    self.assertEqual(within & set(tops), set(), f"{name}: {node.name}")
+
+    def test_is_stands_beside_none_and_truths_alone(self):
+        for name, text, tree in sources():
+            for node in ast.walk(tree):
+                if isinstance(node, ast.Compare) and isinstance(node.ops[0], (ast.Is, ast.IsNot)):
+                    self.assertIn(ast.unparse(node.comparators[0]), ("None", "True", "False"), name)
+
+    def test_methods_and_values(self):
+        pythons = {one for kind in (str, int, list, tuple, dict, set, bytes) for one in dir(kind)}
+        for name, text, tree in sources():
+            methods = {node.name for top in tree.body if isinstance(top, ast.ClassDef) for node in top.body
+                       if isinstance(node, ast.FunctionDef)} - METHODS
+            kept = {node.attr for node in ast.walk(tree)
+                    if isinstance(node, ast.Attribute) and isinstance(node.ctx, ast.Store)}
+            self.assertEqual((methods | kept) & pythons, set(), name)
+            self.assertEqual(methods & kept, set(), name)
+            read = {node.attr for node in ast.walk(tree) if isinstance(node, ast.Attribute)}
+            self.assertEqual(read - methods - kept - CALLED, set(), name)
 
     def test_imports(self):
         trees = {f"herdline.{name[:-3]}": tree for name, text, tree in sources()}
